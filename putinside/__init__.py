@@ -1,0 +1,1 @@
+"""Putinside: boxes that are put into bigger boxes beside them."""

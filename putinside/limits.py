@@ -1,0 +1,3 @@
+"""The limits that the package keeps to."""
+
+MOST_LISTED = 300
