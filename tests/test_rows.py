@@ -5,83 +5,9 @@ import inspect
 import itertools
 import unittest
 
+from cases import HUGE, LONG_ROWS, NO_NUMBERS, ROW, TWELVE, histories_of, long_cases, played, repr_of, small_rows
 from putinside import rows
 from putinside.rows import is_history, is_row, moves, outer_boxes
-
-ROW = (2, 4, 1, 3)
-HUGE = 10 ** 5000
-
-TWELVE = (5, 12, 1, 8, 3, 10, 2, 7, 11, 4, 9, 6)
-LONG_ROWS = [
-    TWELVE,
-    tuple(range(1, 13)),
-    tuple(range(12, 0, -1)),
-    (10 ** 9, 1, 10 ** 9 - 1, 2, 7, 6, 40, 39, 500, 3, 10 ** 8, 4),
-    (3, 14, 15, 9, 26, 5, 35, 8),
-]
-LONG_HISTORIES = [
-    [],
-    [6],
-    [0, 2, 4, 6],
-    [6, 4, 2, 0, 5],
-    [1, 2, 3, 0],
-    [3, 2, 4, 1, 5, 0, 6],
-]
-
-
-def nested(depth, thing):
-    for _ in range(depth):
-        thing = [thing]
-    return thing
-
-
-# Values of every kind that a thing may have, none of which a row or a history has among its numbers.
-NO_NUMBERS = [
-    True, False, None, "", "1", "2 4 1 3", (), [], (1,), [1], (1, 2), [0, 1], ((1,),), [[]], [None],
-    nested(15, 1), nested(14, (1, "a", None, True)),
-]
-
-
-def played(row, history):
-    """The outer boxes and the moves, from heaps (first, last, place) that are put together one by one."""
-    heaps = [(place, place, place) for place in range(len(row))]
-    put = []
-    for gap in history:
-        [at] = [k for k, heap in enumerate(heaps) if heap[1] == gap]
-        left, right = heaps[at], heaps[at + 1]
-        if row[left[2]] < row[right[2]]:
-            small, big = left[2], right[2]
-        else:
-            small, big = right[2], left[2]
-        put.append((small, big))
-        heaps[at:at + 2] = [(left[0], right[1], big)]
-    return heaps, put
-
-
-def small_rows():
-    for many in range(1, 6):
-        for row in itertools.permutations(range(1, many + 1)):
-            yield row
-
-
-def histories_of(row):
-    gaps = range(len(row) - 1)
-    for many in range(len(row)):
-        for history in itertools.permutations(gaps, many):
-            yield list(history)
-
-
-def long_cases():
-    for row in LONG_ROWS:
-        for history in LONG_HISTORIES:
-            yield row, history
-        gaps = list(range(len(row) - 1))
-        for by in range(1, len(row)):
-            turned = gaps[by:] + gaps[:by]
-            yield row, turned
-            yield row, turned[::-1]
-            yield row, turned[::2] + turned[1::2]
-            yield row, turned[:by]
 
 
 class InterfaceTest(unittest.TestCase):
@@ -350,15 +276,6 @@ class ArgumentsTest(unittest.TestCase):
         history = [gap for _, gap, _ in outer_boxes(row, [])][:-1]
         self.assertIs(is_history(row, history), True)
         self.assertEqual(moves(row, history), [(k + 1, 0) for k in range(29)])
-
-
-def repr_of(thing):
-    """A text that tells lists from tuples and booleans from numbers, also for numbers of any length."""
-    if isinstance(thing, (list, tuple)):
-        return type(thing).__name__ + "(" + ",".join(repr_of(part) for part in thing) + ")"
-    if isinstance(thing, int):
-        return type(thing).__name__ + hex(thing)
-    return repr(thing)
 
 
 if __name__ == "__main__":
