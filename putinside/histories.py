@@ -51,6 +51,17 @@ def gap_spans(row, nesting):
     return spans
 
 
+def gap_boxes(row, nesting):
+    """For each closed gap the place of the box that is put in when it is closed."""
+    boxes = {}
+    for place, (first, last, _) in enumerate(spreads(row, nesting)):
+        above = nesting[place]
+        if above is not None:
+            gap = last if place < above else first - 1
+            boxes[gap] = place
+    return boxes
+
+
 def span_sizes(spans):
     """For each closed gap the number of gaps in its span, itself included."""
     return {gap: high - low + 1 for gap, (low, high) in spans.items()}

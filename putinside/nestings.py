@@ -1,7 +1,7 @@
 """Nestings: for each box of a row the box in which it is directly, None for the outer ones."""
 
 from putinside.errors import NoBox
-from putinside.rows import is_number, moves
+from putinside.rows import by_size, is_number, moves
 
 
 def nesting_after(row, history):
@@ -43,7 +43,7 @@ def spreads(row, claim):
     lasts = list(range(len(row)))
     counts = [1] * len(row)
     # From the smallest box on: all that is in a box has been added to it when it is added to its holder.
-    for _, place in sorted([(size, at) for at, size in enumerate(row)]):
+    for place in by_size(row):
         above = claim[place]
         if above is not None:
             firsts[above] = min(firsts[above], firsts[place])
@@ -86,6 +86,11 @@ def shows_evidence(row, claim, thing):
     if word == "small":
         return place in small
     return word == "apart" and not small and place in apart_places(row, claim)
+
+
+def outer_places(nesting):
+    """The ascending list of the places of the outer boxes."""
+    return [place for place, above in enumerate(nesting) if above is None]
 
 
 def check_place(row, place):

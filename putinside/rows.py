@@ -25,12 +25,33 @@ def is_history(row, thing):
     """Whether thing is a HISTORY of the ROW: a list of different gaps, maybe empty."""
     if not isinstance(thing, list) or not are_different_numbers(thing):
         return False
-    return all([0 <= gap <= len(row) - 2 for gap in thing])
+    return all([is_gap(row, gap) for gap in thing])
+
+
+def is_gap(row, gap):
+    """Whether the number is a gap of the ROW."""
+    return 0 <= gap <= len(row) - 2
 
 
 def biggest(row, first, last):
     """The place of the biggest box from the first to the last place."""
     return row.index(max(row[first:last + 1]))
+
+
+def by_size(row):
+    """The places of all boxes, the smallest box first."""
+    return [place for _, place in sorted([(size, at) for at, size in enumerate(row)])]
+
+
+def reach(row, place):
+    """The first and the last place of the longest stretch around the box in which no box is bigger."""
+    first = place
+    while first > 0 and row[first - 1] < row[place]:
+        first -= 1
+    last = place
+    while last < len(row) - 1 and row[last + 1] < row[place]:
+        last += 1
+    return (first, last)
 
 
 def outer_boxes(row, history):

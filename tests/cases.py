@@ -156,3 +156,66 @@ def repr_of(thing):
     if isinstance(thing, int):
         return type(thing).__name__ + hex(thing)
     return repr(thing)
+
+
+def check_error(test, error, values, function, *arguments):
+    """The call raises this error itself, with these values as its attributes."""
+    with test.assertRaises(error) as caught:
+        function(*arguments)
+    test.assertIs(type(caught.exception), error)
+    test.assertEqual(vars(caught.exception), values)
+
+
+def no_places(row):
+    """Numbers that are no places of the row."""
+    return [-1, -2, -len(row), -len(row) - 1, len(row), len(row) + 1, 12, 99, HUGE, -HUGE]
+
+
+def full_histories(row):
+    return [list(history) for history in itertools.permutations(range(len(row) - 1))]
+
+
+def rank(nesting):
+    """What nestings are sorted by: None is taken for -1."""
+    return tuple(-1 if above is None else above for above in nesting)
+
+
+def is_full(nesting):
+    return nesting.count(None) == 1
+
+
+def full_by_histories(row):
+    """The ascending list of the full nestings of the row, from all its full histories."""
+    return sorted({nesting_of(row, history) for history in full_histories(row)}, key=rank)
+
+
+def filled(part, place):
+    """The part of a nesting with its outer boxes put into the box at the place."""
+    return tuple(place if above is None else above for above in part)
+
+
+def parts_of(row):
+    """For each stretch (first, behind) its nestings and its full nestings, from shorter stretches.
+
+    A nesting is a full nesting of some of the first boxes and a nesting of those behind them.
+    """
+    every = {(at, at): [()] for at in range(len(row) + 1)}
+    full = {}
+    for many in range(1, len(row) + 1):
+        for first in range(len(row) - many + 1):
+            behind = first + many
+            top = row.index(max(row[first:behind]))
+            full[first, behind] = [filled(one, top) + (None,) + filled(other, top)
+                                   for one in every[first, top] for other in every[top + 1, behind]]
+            every[first, behind] = [one + other for middle in range(first + 1, behind + 1)
+                                    for one in full[first, middle] for other in every[middle, behind]]
+    return every[0, len(row)], full[0, len(row)]
+
+
+def boxes_around(nesting, place):
+    """The boxes around the box, the nearest one first."""
+    found = []
+    while nesting[place] is not None:
+        place = nesting[place]
+        found.append(place)
+    return found
