@@ -75,9 +75,9 @@ def holder_chance(row, one, other):
     if other not in holders(row, one):
         return (0, 1)
     row, one, other = facing(row, one, other)
-    # The gap closed last between the two must be one up to which no box is bigger than one.
+    # The gap that is closed last between the two must be one up to which no box is bigger than one.
     _, last = reach(row, one)
-    ways = min(last, other - 1) - one + 1
+    ways = last - one + 1
     left = [one - place for place in bigger_left(row, one)]
     right = [place - other for place in bigger_right(row, other)]
     return last_chance(ways, other - one, left + right)

@@ -219,3 +219,28 @@ def boxes_around(nesting, place):
         place = nesting[place]
         found.append(place)
     return found
+
+
+def outermost(nesting, place):
+    return ([place] + boxes_around(nesting, place))[-1]
+
+
+def replaced(nesting, place, above):
+    return nesting[:place] + (above,) + nesting[place + 1:]
+
+
+def steps_by_reading(row, nesting):
+    """For each step that is possible the nesting after it, from the words of point 10."""
+    found = {}
+    for gap in range(len(row) - 1):
+        left, right = outermost(nesting, gap), outermost(nesting, gap + 1)
+        if left != right:
+            small, big = (left, right) if row[left] < row[right] else (right, left)
+            found["put", gap] = replaced(nesting, small, big)
+    for place, above in enumerate(nesting):
+        if above is None or nesting[above] is not None:
+            continue
+        beside = [other for other in range(len(row)) if nesting[other] == above and (other < above) == (place < above)]
+        if max(beside, key=lambda other: abs(other - above)) == place:
+            found["take", place] = replaced(nesting, place, None)
+    return found

@@ -4,8 +4,8 @@ import inspect
 import unittest
 
 from cases import (HUGE, NO_NUMBERS, ROW, TWELVE, boxes_around, cases_of_every_length, check_arguments, check_error,
-                   check_fresh, histories_of, long_cases, nested, nesting_of, no_places, repr_of, small_rows,
-                   with_lists)
+                   check_fresh, histories_of, long_cases, nested, nesting_of, no_places, outermost, replaced, repr_of,
+                   small_rows, steps_by_reading, with_lists)
 from putinside import changes
 from putinside.changes import after_step, shows_step_plan, step_plan, steps, steps_apart
 from putinside.errors import Closed, NoBox, NoGap, Outer, Stuck
@@ -28,31 +28,6 @@ SEARCHED = [row for row in small_rows() if len(row) <= 4 or row in [
 
 def nestings_of(row):
     return {nesting_of(row, history) for history in histories_of(row)}
-
-
-def outermost(nesting, place):
-    return ([place] + boxes_around(nesting, place))[-1]
-
-
-def replaced(nesting, place, above):
-    return nesting[:place] + (above,) + nesting[place + 1:]
-
-
-def steps_by_reading(row, nesting):
-    """For each step that is possible the nesting after it, from the words of point 10."""
-    found = {}
-    for gap in range(len(row) - 1):
-        left, right = outermost(nesting, gap), outermost(nesting, gap + 1)
-        if left != right:
-            small, big = (left, right) if row[left] < row[right] else (right, left)
-            found["put", gap] = replaced(nesting, small, big)
-    for place, above in enumerate(nesting):
-        if above is None or nesting[above] is not None:
-            continue
-        beside = [other for other in range(len(row)) if nesting[other] == above and (other < above) == (place < above)]
-        if max(beside, key=lambda other: abs(other - above)) == place:
-            found["take", place] = replaced(nesting, place, None)
-    return found
 
 
 def distances(row, start):
